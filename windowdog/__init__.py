@@ -1,0 +1,1 @@
+"""Windowdog: a watcher that bites unless it is patted in time."""
