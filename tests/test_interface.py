@@ -5,7 +5,7 @@ import inspect
 import pathlib
 import unittest
 
-from windowdog import plans, watch
+from windowdog import judging, pats, plans, tasks, watch
 
 PACKAGE = pathlib.Path(__file__).resolve().parent.parent / "windowdog"
 
@@ -22,6 +22,20 @@ class Interface(unittest.TestCase):
 
     def test_run_plan(self):
         self.assert_stands(plans, "run_plan", ["plan", "delays"])
+
+    def test_judged(self):
+        self.assert_stands(judging, "judged", ["window", "plan"])
+
+    def test_pats(self):
+        self.assert_stands(pats, "plan_with", ["works", "places"])
+        self.assert_stands(pats, "fewest", ["window", "works"])
+        self.assert_stands(pats, "levels_from", ["window", "works", "first"])
+        self.assert_stands(pats, "shown", ["window", "works", "many"])
+
+    def test_tasks(self):
+        self.assert_stands(tasks, "keeper_pats", ["beat", "reports", "end"])
+        self.assert_stands(tasks, "found_at", ["window", "beat", "reports", "end"])
+        self.assert_stands(tasks, "steady", ["window", "beat", "tasks"])
 
 
 class NothingFromOutside(unittest.TestCase):
