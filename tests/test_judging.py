@@ -318,6 +318,21 @@ class Bounds(Case):
         self.assert_bitten((991, 1000), row(part, work(995, 999), PAT), (990, "early"))
         self.assert_bitten((990, 1000), row(work(995, 999), PAT, part, work(0, 6)))
 
+    def test_plans_of_thirty_tuples_six_within_one_another(self):
+        pairs = ("row", (work(500, 1000), PAT) * 9 + (work(600, 900), PAT))
+        plan = row(loop(0, 9, either(loop(0, 9, pairs))), work(500, 500), PAT, work(0, 0), work(0, 0))
+        self.assertEqual(many_plans(plan), 29)
+        plan = row(*plan[1], loop(0, 0, PAT))
+        self.assertGreater(many_plans(plan), 30)
+        self.assertRaises(BadPlan, judged, (500, 1000), plan)
+        plan = row(*plan[1][:5], work(0, 0))
+        self.assertEqual(many_plans(plan), 30)
+        self.assert_safe((500, 1000), plan)
+        self.assert_bitten((501, 1000), plan, (500, "early"))
+        self.assert_bitten((500, 999), plan)
+        self.assert_bitten((500, 1000), row(*plan[1][:5], work(0, 1)))
+        self.assert_never_bitten((500, 1000), plan, random.Random(5), 30)
+
     def test_twenty_choices(self):
         works = tuple(work(least, least) for least in range(10, 30))
         self.assert_safe((10, 29), row(("either", works), PAT))

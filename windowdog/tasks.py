@@ -68,8 +68,8 @@ def keeper_pats(beat, reports, end):
 
 def found_at(window, beat, reports, end):
     """Tell the first bite of the watcher that such a keeper pats, up to the end, or None."""
+    # Ahead of the pats, which refuse a bad beat.
     check_window(window)
-    check_beat(beat)
     return bitten_at(window, keeper_pats(beat, reports, end), end)
 
 
